@@ -1,0 +1,126 @@
+package node
+
+import (
+	"strings"
+
+	"espalier/api"
+	"espalier/sign"
+)
+
+// base is what each kind's node has. It has no ability: a kind's type embeds
+// it, and gets its abilities by the methods that it has beside.
+type base struct {
+	kind string
+	num  int64
+	text string
+	kids []api.Node
+}
+
+func (b *base) Kind() string { return b.kind }
+func (b *base) Num() int64   { return b.num }
+func (b *base) Text() string { return b.text }
+func (b *base) Len() int     { return len(b.kids) }
+
+func (b *base) Kid(i int) api.Node {
+	if i < 0 || i >= len(b.kids) {
+		return nil
+	}
+	return b.kids[i]
+}
+
+type pure struct{ base }
+
+func (*pure) Quiet() bool { return true }
+
+type total struct{ pure }
+
+func (*total) Sure() bool { return true }
+
+type literal struct {
+	total
+	worth api.Value
+}
+
+func (l *literal) Worth() api.Value { return l.worth }
+
+func (l *literal) Signs() api.Signature {
+	return api.Signature{Out: api.Sort{Name: l.worth.Sort()}}
+}
+
+type variable struct{ pure }
+
+func (v *variable) Uses() string { return v.Text() }
+
+type frame struct{ total }
+
+func (f *frame) Frames() int { return f.Len() - 1 }
+
+// kind is a row of the kit base, and how its nodes are made.
+type kind struct {
+	name     string
+	min, max int
+	num      bool
+	text     int
+	has      string
+	make     func(base) api.Node
+}
+
+// kinds is the kit base.
+func kinds() []kind {
+	const value = "Literal Pure Total Sorted"
+	of := func(b base, v api.Value) api.Node { return &literal{total{pure{b}}, v} }
+	return []kind{
+		{name: "base.unit", has: value, make: func(b base) api.Node { return of(b, api.Unit{}) }},
+		{name: "base.yes", has: value, make: func(b base) api.Node { return of(b, api.Truth(true)) }},
+		{name: "base.no", has: value, make: func(b base) api.Node { return of(b, api.Truth(false)) }},
+		{name: "base.int", num: true, has: value, make: func(b base) api.Node { return of(b, api.Int(b.num)) }},
+		{name: "base.text", text: api.TextAny, has: value, make: func(b base) api.Node { return of(b, api.Text(b.text)) }},
+		{name: "base.var", text: api.TextUse, has: "User Pure", make: func(b base) api.Node { return &variable{pure{b}} }},
+		{name: "base.frame", min: 1, max: api.MaxFrame + 1, has: "Pure Total Framed", make: func(b base) api.Node { return &frame{total{pure{b}}} }},
+	}
+}
+
+func kindOf(name string) (kind, bool) {
+	for _, k := range kinds() {
+		if k.name == name {
+			return k, true
+		}
+	}
+	return kind{}, false
+}
+
+func (k kind) row() api.Row {
+	return api.Row{Kind: k.name, Min: k.min, Max: k.max, Num: k.num, Text: k.text, Abilities: strings.Fields(k.has)}
+}
+
+// fits tells what is amiss with a node of that kind and so many kids.
+func (k kind) fits(t api.Tree, kids int) api.Errno {
+	switch {
+	case kids < k.min || kids > k.max:
+		return api.ErrCount
+	case len(t.Text) > api.MaxLetters:
+		return api.ErrLong
+	case t.Num != 0 && !k.num, !k.takes(t.Text):
+		return api.ErrFit
+	}
+	return api.OK
+}
+
+func (k kind) takes(text string) bool {
+	switch k.text {
+	case api.TextAny:
+		return true
+	case api.TextUse:
+		return sign.Use(text)
+	}
+	return text == ""
+}
+
+// nodesOf gives a list of its own: the handles' one stays the caller's.
+func nodesOf(hs []*Handle) []api.Node {
+	var nodes []api.Node
+	for _, h := range hs {
+		nodes = append(nodes, h.node)
+	}
+	return nodes
+}
