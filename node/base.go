@@ -4,40 +4,13 @@ import (
 	"strings"
 
 	"espalier/api"
+	"espalier/part"
 	"espalier/sign"
 )
 
-// base is what each kind's node has. It has no ability: a kind's type embeds
-// it, and gets its abilities by the methods that it has beside.
-type base struct {
-	kind string
-	num  int64
-	text string
-	kids []api.Node
-}
-
-func (b *base) Kind() string { return b.kind }
-func (b *base) Num() int64   { return b.num }
-func (b *base) Text() string { return b.text }
-func (b *base) Len() int     { return len(b.kids) }
-
-func (b *base) Kid(i int) api.Node {
-	if i < 0 || i >= len(b.kids) {
-		return nil
-	}
-	return b.kids[i]
-}
-
-type pure struct{ base }
-
-func (*pure) Quiet() bool { return true }
-
-type total struct{ pure }
-
-func (*total) Sure() bool { return true }
-
 type literal struct {
-	total
+	part.Base
+	part.Total
 	worth api.Value
 }
 
@@ -47,11 +20,17 @@ func (l *literal) Signs() api.Signature {
 	return api.Signature{Out: api.Sort{Name: l.worth.Sort()}}
 }
 
-type variable struct{ pure }
+type variable struct {
+	part.Base
+	part.Pure
+}
 
 func (v *variable) Uses() string { return v.Text() }
 
-type frame struct{ total }
+type frame struct {
+	part.Base
+	part.Total
+}
 
 func (f *frame) Frames() int { return f.Len() - 1 }
 
@@ -62,21 +41,21 @@ type kind struct {
 	num      bool
 	text     int
 	has      string
-	make     func(base) api.Node
+	make     func(part.Base) api.Node
 }
 
 // kinds is the kit base.
 func kinds() []kind {
 	const value = "Literal Pure Total Sorted"
-	of := func(b base, v api.Value) api.Node { return &literal{total{pure{b}}, v} }
+	of := func(b part.Base, v api.Value) api.Node { return &literal{Base: b, worth: v} }
 	return []kind{
-		{name: "base.unit", has: value, make: func(b base) api.Node { return of(b, api.Unit{}) }},
-		{name: "base.yes", has: value, make: func(b base) api.Node { return of(b, api.Truth(true)) }},
-		{name: "base.no", has: value, make: func(b base) api.Node { return of(b, api.Truth(false)) }},
-		{name: "base.int", num: true, has: value, make: func(b base) api.Node { return of(b, api.Int(b.num)) }},
-		{name: "base.text", text: api.TextAny, has: value, make: func(b base) api.Node { return of(b, api.Text(b.text)) }},
-		{name: "base.var", text: api.TextUse, has: "User Pure", make: func(b base) api.Node { return &variable{pure{b}} }},
-		{name: "base.frame", min: 1, max: api.MaxFrame + 1, has: "Pure Total Framed", make: func(b base) api.Node { return &frame{total{pure{b}}} }},
+		{name: "base.unit", has: value, make: func(b part.Base) api.Node { return of(b, api.Unit{}) }},
+		{name: "base.yes", has: value, make: func(b part.Base) api.Node { return of(b, api.Truth(true)) }},
+		{name: "base.no", has: value, make: func(b part.Base) api.Node { return of(b, api.Truth(false)) }},
+		{name: "base.int", num: true, has: value, make: func(b part.Base) api.Node { return of(b, api.Int(b.Num())) }},
+		{name: "base.text", text: api.TextAny, has: value, make: func(b part.Base) api.Node { return of(b, api.Text(b.Text())) }},
+		{name: "base.var", text: api.TextUse, has: "User Pure", make: func(b part.Base) api.Node { return &variable{Base: b} }},
+		{name: "base.frame", min: 1, max: api.MaxFrame + 1, has: "Pure Total Framed", make: func(b part.Base) api.Node { return &frame{Base: b} }},
 	}
 }
 

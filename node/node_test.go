@@ -831,3 +831,21 @@ func TestFromManyGoroutines(t *testing.T) {
 	}
 	all.Wait()
 }
+
+// Hold is what kits call beside the face.
+func TestHold(t *testing.T) {
+	if h := node.Hold(nil); h != nil {
+		t.Errorf("P6.2: a handle of no node")
+	}
+	five := made(t, api.Tree{Kind: "base.int", Num: 5})
+	for _, h := range []*node.Handle{five, covered(t, five), wrapped(t, covered(t, five), "f", 1)} {
+		held := node.Hold(h.Node())
+		if held == nil || held.Node() != h.Node() || !slices.Equal(node.Abilities(held), node.Abilities(h)) {
+			t.Errorf("P6.2: a handle of another node")
+		}
+		core, e := node.Core(held)
+		if e != nil || core.Node() != five.Node() || node.Must(held, "Literal") != nil {
+			t.Errorf("P6.4: the core of a node that was held: %v", e)
+		}
+	}
+}

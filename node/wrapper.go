@@ -26,6 +26,17 @@ func copied(p api.Place) api.Place {
 	return api.Place{Fun: p.Fun, Path: slices.Clone(p.Path)}
 }
 
+func coreOf(n api.Node) api.Node {
+	for {
+		switch w := n.(type) {
+		case api.Wrapped:
+			n = w.Inner()
+		default:
+			return n
+		}
+	}
+}
+
 // placeOf tells where the first wrapper that knows it, from outside, came from.
 func placeOf(n api.Node) api.Place {
 	for {

@@ -1,0 +1,84 @@
+// Package craft: what the program's kits have in common: their kinds in a table, the kit that is made of it, and the work of its operations.
+package craft
+
+import (
+	"slices"
+	"strings"
+
+	"espalier/api"
+	"espalier/kit"
+	"espalier/node"
+	"espalier/part"
+	"espalier/worth"
+)
+
+// Operation is what a Strict kind does with its kids' values, which are as
+// many as its row asks, and of the sorts that it tells: the value; or a
+// fault's number and, of a raise, what was raised.
+type Operation func(args []api.Value) (api.Value, api.Errno, string)
+
+// Kind is a kind of a kit: what its row tells, its sorts, how its nodes are
+// made, and, of a Strict one, what it does.
+type Kind struct {
+	Name     string
+	Min, Max int
+	Text     int
+	Has      string
+	Signs    part.Sorted
+	Make     func(part.Base, part.Sorted) api.Node
+	Does     Operation
+}
+
+// Kit gives the kit of a table of kinds.
+func Kit(name string, kinds []Kind) *kit.Kit {
+	kinds = slices.Clone(kinds)
+	var rows []api.Row
+	for _, k := range kinds {
+		rows = append(rows, api.Row{Kind: k.Name, Min: k.Min, Max: k.Max, Text: k.Text, Abilities: strings.Fields(k.Has)})
+	}
+	made, _ := kit.New(name, rows, func(t api.Tree, kids ...*node.Handle) *node.Handle {
+		k, _ := find(kinds, t.Kind)
+		return node.Hold(k.Make(part.New(t, nodesOf(kids)...), k.Signs))
+	})
+	return made
+}
+
+func find(kinds []Kind, name string) (Kind, bool) {
+	for _, k := range kinds {
+		if k.Name == name {
+			return k, true
+		}
+	}
+	return Kind{}, false
+}
+
+func nodesOf(hs []*node.Handle) []api.Node {
+	var nodes []api.Node
+	for _, h := range hs {
+		nodes = append(nodes, h.Node())
+	}
+	return nodes
+}
+
+// Work does the operation of a kind of a table on plain values.
+func Work(kinds []Kind, op string, args ...api.Plain) (api.Value, api.Errno, string) {
+	k, _ := find(kinds, op)
+	if k.Does == nil {
+		return nil, api.ErrArg, ""
+	}
+	if len(args) < k.Min || k.Max >= 0 && len(args) > k.Max {
+		return nil, api.ErrCount, ""
+	}
+	values := make([]api.Value, len(args))
+	for i, arg := range args {
+		v, e := worth.Of(arg)
+		if e != api.OK {
+			return nil, e, ""
+		}
+		values[i] = v
+	}
+	if !part.Right(k.Signs, values...) {
+		return nil, api.ErrKind, ""
+	}
+	return k.Does(values)
+}
