@@ -18,7 +18,9 @@ import (
 type Operation func(args []api.Value) (api.Value, api.Errno, string)
 
 // Kind is a kind of a kit: what its row tells, its sorts, how its nodes are
-// made, and, of a Strict one, what it does.
+// made, and, of a Strict one, what it does. One that Joins makes the list of
+// all its values: whether that may be is asked of the plain ones, as any
+// number of them, which may share lists, could be more than memory holds.
 type Kind struct {
 	Name     string
 	Min, Max int
@@ -27,6 +29,7 @@ type Kind struct {
 	Signs    part.Sorted
 	Make     func(part.Base, part.Sorted) api.Node
 	Does     Operation
+	Joins    bool
 }
 
 // Kit gives the kit of a table of kinds.
@@ -69,6 +72,11 @@ func Work(kinds []Kind, op string, args ...api.Plain) (api.Value, api.Errno, str
 	if len(args) < k.Min || k.Max >= 0 && len(args) > k.Max {
 		return nil, api.ErrCount, ""
 	}
+	if k.Joins {
+		if _, e := worth.Join(args...); e != api.OK {
+			return nil, e, ""
+		}
+	}
 	values := make([]api.Value, len(args))
 	for i, arg := range args {
 		v, e := worth.Of(arg)
@@ -77,8 +85,18 @@ func Work(kinds []Kind, op string, args ...api.Plain) (api.Value, api.Errno, str
 		}
 		values[i] = v
 	}
+	return k.done(values)
+}
+
+// done does the operation. That a value which may not be is ErrLong holds for
+// all kits: an operation need not tell it.
+func (k Kind) done(values []api.Value) (api.Value, api.Errno, string) {
 	if !part.Right(k.Signs, values...) {
 		return nil, api.ErrKind, ""
 	}
-	return k.Does(values)
+	v, e, said := k.Does(values)
+	if e == api.OK && !may(v) {
+		return nil, api.ErrLong, ""
+	}
+	return v, e, said
 }
