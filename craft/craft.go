@@ -41,7 +41,8 @@ func Kit(name string, kinds []Kind) *kit.Kit {
 	}
 	made, _ := kit.New(name, rows, func(t api.Tree, kids ...*node.Handle) *node.Handle {
 		k, _ := find(kinds, t.Kind)
-		return node.Hold(k.Make(part.New(t, nodesOf(kids)...), k.Signs))
+		nodes, _ := node.Nodes(kids)
+		return node.Hold(k.Make(part.New(t, nodes...), k.Signs))
 	})
 	return made
 }
@@ -53,14 +54,6 @@ func find(kinds []Kind, name string) (Kind, bool) {
 		}
 	}
 	return Kind{}, false
-}
-
-func nodesOf(hs []*node.Handle) []api.Node {
-	var nodes []api.Node
-	for _, h := range hs {
-		nodes = append(nodes, h.Node())
-	}
-	return nodes
 }
 
 // Work does the operation of a kind of a table on plain values.

@@ -24,19 +24,6 @@ func (k *Kit) add(r api.Row) api.Errno {
 	return api.OK
 }
 
-// nodesOf tells the nodes that handles hold; false: one holds none.
-func nodesOf(hs []*node.Handle) ([]api.Node, bool) {
-	var nodes []api.Node
-	for _, h := range hs {
-		n := h.Node()
-		if n == nil {
-			return nil, false
-		}
-		nodes = append(nodes, n)
-	}
-	return nodes, true
-}
-
 // made calls the maker; of one that panics the answer is nil, as it is of one
 // that answers nothing.
 func (k *Kit) made(t api.Tree, kids []*node.Handle) (h *node.Handle) {

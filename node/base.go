@@ -94,12 +94,3 @@ func (k kind) takes(text string) bool {
 	}
 	return text == ""
 }
-
-// nodesOf gives a list of its own: the handles' one stays the caller's.
-func nodesOf(hs []*Handle) []api.Node {
-	var nodes []api.Node
-	for _, h := range hs {
-		nodes = append(nodes, h.node)
-	}
-	return nodes
-}

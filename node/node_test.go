@@ -849,3 +849,21 @@ func TestHold(t *testing.T) {
 		}
 	}
 }
+
+// Nodes is what kits call beside the face.
+func TestNodes(t *testing.T) {
+	five := made(t, api.Tree{Kind: "base.int", Num: 5})
+	hs := []*node.Handle{five, covered(t, five), five}
+	l, ok := node.Nodes(hs)
+	if !ok || len(l) != 3 || l[0] != five.Node() || l[1] != hs[1].Node() || l[2] != five.Node() {
+		t.Errorf("P6.2: other nodes than the handles hold")
+	}
+	if l, ok := node.Nodes(nil); !ok || len(l) != 0 {
+		t.Errorf("P6.2: nodes of no handles")
+	}
+	for _, none := range []*node.Handle{nil, {}} {
+		if l, ok := node.Nodes([]*node.Handle{five, none}); ok || l != nil {
+			t.Errorf("P6.2: nodes of a handle that holds none")
+		}
+	}
+}

@@ -64,6 +64,7 @@ func TestSigns(t *testing.T) {
 	list := func(name string) api.Sort { return api.Sort{Name: "list", Of: []api.Sort{of(name)}} }
 	for text, want := range map[part.Sorted]api.Signature{
 		"int > text":                           {Ins: []api.Sort{of("int")}, Out: of("text")},
+		" > list a":                            {Out: list("a")},
 		"list a, int > a":                      {Ins: []api.Sort{list("a"), of("int")}, Out: of("a")},
 		"text, int, int > text":                {Ins: []api.Sort{of("text"), of("int"), of("int")}, Out: of("text")},
 		"a .. > list a":                        {Ins: []api.Sort{of("a")}, Rest: true, Out: list("a")},

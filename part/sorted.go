@@ -9,8 +9,8 @@ import (
 
 // Sorted is the part of nodes with sorts: the signature as the document's
 // tables write it, `list a, b > list b; bound a`, with ` ..` behind the last
-// sort of kids where Rest holds. As it is read each time, what is told is
-// each time the caller's own.
+// sort of kids where Rest holds, and nothing ahead of ` >` where there are no
+// kids. As it is read each time, what is told is each time the caller's own.
 type Sorted string
 
 // Signs tells the signature.
@@ -19,6 +19,9 @@ func (s Sorted) Signs() api.Signature {
 	out, bound, _ := strings.Cut(out, "; bound ")
 	ins, rest := strings.CutSuffix(ins, " ..")
 	signs := api.Signature{Rest: rest, Out: sorted(out), Bound: sorted(bound)}
+	if ins == "" {
+		return signs
+	}
 	for in := range strings.SplitSeq(ins, ", ") {
 		signs.Ins = append(signs.Ins, sorted(in))
 	}
