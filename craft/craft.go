@@ -42,7 +42,8 @@ func Kit(name string, kinds []Kind) *kit.Kit {
 	made, _ := kit.New(name, rows, func(t api.Tree, kids ...*node.Handle) *node.Handle {
 		k, _ := find(kinds, t.Kind)
 		nodes, _ := node.Nodes(kids)
-		return node.Hold(k.Make(part.New(t, nodes...), k.Signs))
+		m, signs := k.Make, k.Signs // All that each node keeps of its kind.
+		return node.Hold(part.Make(part.New(t, nodes...), func(b part.Base) api.Node { return m(b, signs) }))
 	})
 	return made
 }

@@ -19,7 +19,7 @@ type toy struct {
 	part.Sorted
 }
 
-func (t *toy) Op() string { return t.Kind() }
+func (t *toy) Op() string { return t.Does() }
 
 func newToy(b part.Base, s part.Sorted) api.Node { return &toy{b, s} }
 

@@ -18,7 +18,7 @@ type lazy struct {
 	part.Sorted
 }
 
-func (l *lazy) Way() string { return l.Kind() }
+func (l *lazy) Way() string { return l.Does() }
 
 // emit is neither quiet nor sure, so it has no part beside its sorts.
 type emit struct {
@@ -26,7 +26,7 @@ type emit struct {
 	part.Sorted
 }
 
-func (e *emit) Op() string { return e.Kind() }
+func (e *emit) Op() string { return e.Does() }
 
 // all has no sorts of its own: what it is spelt with has them.
 type all struct{ base }

@@ -12,7 +12,7 @@ type strict struct {
 	part.Sorted
 }
 
-func (s *strict) Op() string { return s.Kind() }
+func (s *strict) Op() string { return s.Does() }
 
 // lazy has no operation: whoever evaluates it asks package caught which faults
 // its way catches. It is quiet and sure: what is raised again is its kids' doing.
@@ -22,7 +22,7 @@ type lazy struct {
 	part.Sorted
 }
 
-func (l *lazy) Way() string { return l.Kind() }
+func (l *lazy) Way() string { return l.Does() }
 
 // catch is Lazy and a Binder: whoever evaluates it asks for its way first, and
 // binds the name only where a fault is caught.

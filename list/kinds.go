@@ -15,7 +15,7 @@ type base struct {
 
 type strict struct{ base }
 
-func (s *strict) Op() string { return s.Kind() }
+func (s *strict) Op() string { return s.Does() }
 
 type sure struct{ strict }
 
@@ -25,7 +25,7 @@ func (*sure) Sure() bool { return true }
 // binds the name anew for each value of the list.
 type each struct{ base }
 
-func (e *each) Way() string { return e.Kind() }
+func (e *each) Way() string { return e.Does() }
 
 func (e *each) Binds() (string, int) { return e.Text(), 1 }
 

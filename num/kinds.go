@@ -16,7 +16,7 @@ type base struct {
 
 type strict struct{ base }
 
-func (s *strict) Op() string { return s.Kind() }
+func (s *strict) Op() string { return s.Does() }
 
 type sure struct{ strict }
 

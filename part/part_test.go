@@ -39,6 +39,30 @@ func TestBase(t *testing.T) {
 	}
 }
 
+func TestNamed(t *testing.T) {
+	kid := made(api.Tree{Kind: "a.a"})
+	calls := 0
+	n := part.Make(part.New(api.Tree{Kind: "c.c", Num: -5, Text: "x"}, kid), func(b part.Base) api.Node {
+		calls++
+		return &toy{Base: b}
+	}).(*toy)
+	if calls != 1 || n.Kind() != "c.c" || n.Does() != "c.c" {
+		t.Errorf("made %d times: %s, %s", calls, n.Kind(), n.Does())
+	}
+	for _, other := range []api.Node{n.Named("d.d"), n.Named("e.e").(*toy).Named("d.d")} {
+		x, ok := other.(*toy)
+		if !ok || x == n || x.Kind() != "d.d" || x.Does() != "c.c" || x.Num() != -5 || x.Text() != "x" || x.Len() != 1 || x.Kid(0) != api.Node(kid) {
+			t.Errorf("a node that was named is another one in more than its kind")
+		}
+	}
+	if n.Kind() != "c.c" || n.Does() != "c.c" || n.Named("c.c") == api.Node(n) {
+		t.Errorf("a node changes, when it is named")
+	}
+	if kid.Named("b.b") != nil {
+		t.Errorf("a node that was not made by Make is named")
+	}
+}
+
 func TestParts(t *testing.T) {
 	var n api.Node = made(api.Tree{})
 	if x, ok := n.(api.Total); !ok || !x.Quiet() || !x.Sure() {

@@ -33,24 +33,43 @@ func (s *Shelf) made(p api.Plugin) (k *kit.Kit, e error) {
 	return s.byTemplate(p)
 }
 
+// named is a node that gives one of another kind, which does the same.
+type named interface{ Named(kind string) api.Node }
+
+// byLikeness makes the nodes of a plugin of such that the other kind's kit
+// makes. They are of the same types: whatever abilities a kit gives its nodes
+// together, what is like them has just these.
 func (s *Shelf) byLikeness(p api.Plugin) (*kit.Kit, error) {
-	kind := p.Like
-	as, ok := s.kitOf(kind)
+	kind, like := p.Kind, p.Like
+	as, ok := s.kitOf(like)
 	if !ok {
 		return nil, fault.New(api.ErrNone)
 	}
-	row, _ := as.Row(kind)
+	row, _ := as.Row(like)
 	if !imitable(row.Abilities) || !alone(p) {
 		return nil, fault.New(api.ErrArg)
 	}
-	row.Kind = p.Kind
+	row.Kind = kind
 	return kitOfOne(row, func(t api.Tree, kids ...*node.Handle) *node.Handle {
-		nodes, _ := node.Nodes(kids)
-		own := part.New(t, nodes...)
-		t.Kind = kind
+		t.Kind = like
 		h, _ := as.Make(t, kids...)
-		return node.Hold(alike(own, h.Node()))
+		if x, ok := h.Node().(named); ok {
+			return node.Hold(x.Named(kind))
+		}
+		return nil
 	})
+}
+
+// imitable tells whether a plugin may be like a kind whose nodes have these
+// abilities.
+func imitable(abilities []string) bool {
+	for _, a := range abilities {
+		switch a {
+		case "Literal", "Strict", "Lazy":
+			return true
+		}
+	}
+	return slices.Contains(abilities, "Binder") && !slices.Contains(abilities, "Caller")
 }
 
 func (s *Shelf) byTemplate(p api.Plugin) (*kit.Kit, error) {

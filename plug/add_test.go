@@ -411,14 +411,14 @@ type nosy struct {
 	quiet, sure bool
 }
 
-func (n *nosy) Op() string  { return n.Kind() }
+func (n *nosy) Op() string  { return n.Does() }
 func (n *nosy) Quiet() bool { return n.quiet }
 func (n *nosy) Sure() bool  { return n.sure }
 
 // rude panics, whatever its sorts or its doing are asked.
 type rude struct{ part.Base }
 
-func (r *rude) Op() string           { return r.Kind() }
+func (r *rude) Op() string           { return r.Does() }
 func (r *rude) Quiet() bool          { panic("not told") }
 func (r *rude) Signs() api.Signature { panic("not told") }
 

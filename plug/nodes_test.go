@@ -10,6 +10,7 @@ import (
 
 	"espalier/api"
 	"espalier/craft"
+	"espalier/fault"
 	"espalier/kit"
 	"espalier/node"
 	"espalier/part"
@@ -149,6 +150,12 @@ func tells(n api.Node) string {
 		name, where := x.Binds()
 		out += fmt.Sprintf("; binds %s in %d", name, where)
 	}
+	if x, ok := n.(api.User); ok {
+		out += "; uses " + x.Uses()
+	}
+	if x, ok := n.(api.Caller); ok {
+		out += "; calls " + x.Calls()
+	}
 	if x, ok := n.(api.Pure); ok {
 		out += fmt.Sprintf("; quiet %v", x.Quiet())
 	}
@@ -157,6 +164,12 @@ func tells(n api.Node) string {
 	}
 	if x, ok := n.(api.Sorted); ok {
 		out += fmt.Sprintf("; sorts %v", x.Signs())
+	}
+	if x, ok := n.(api.Sugar); ok {
+		out += "; spelt " + x.Spelt().Kind()
+	}
+	if x, ok := n.(api.Framed); ok {
+		out += fmt.Sprintf("; frames %d", x.Frames())
 	}
 	return out
 }
@@ -351,28 +364,256 @@ func TestLikenessOfAllTypes(t *testing.T) {
 	}
 }
 
-// Such as no kit of the program has, and no plugin's type is for.
+// Parts of abilities, each of which stands alone; the types that are put
+// together of them are such as no kit of the program has.
 type (
-	mixed    struct{ binder }
-	unsorted struct{ part.Base }
-	calling  struct{ doer }
+	doing    struct{}
+	going    struct{}
+	naming   struct{}
+	standing struct{}
+	using    struct{}
+	calling  struct{}
+	spelling struct{}
+	framing  struct{}
 )
 
-func (*mixed) Op() string      { return "toy.does" }
-func (*unsorted) Op() string   { return "toy.does" }
-func (*calling) Calls() string { return "toy" }
+func (doing) Op() string            { return "toy.does" }
+func (going) Way() string           { return "toy.goes" }
+func (naming) Binds() (string, int) { return "toy", 1 }
+func (standing) Worth() api.Value   { return api.Int(7) }
+func (using) Uses() string          { return "used" }
+func (calling) Calls() string       { return "called" }
+func (spelling) Spelt() api.Node    { return number(5).Node() }
+func (framing) Frames() int         { return 1 }
 
-func TestNoLikeness(t *testing.T) {
-	k := craft.Kit("toy", []craft.Kind{
-		{Name: "toy.mixed", Has: "Strict Binder Sorted", Make: func(b part.Base, _ part.Sorted) api.Node { return &mixed{binder{toy{Base: b}}} }},
-		{Name: "toy.unsorted", Has: "Strict", Make: func(b part.Base, _ part.Sorted) api.Node { return &unsorted{b} }},
-		{Name: "toy.calling", Has: "Strict Caller Sorted", Make: func(b part.Base, _ part.Sorted) api.Node { return &calling{doer{toy{Base: b}}} }},
-	})
-	s := shelf(t, k)
-	for _, kind := range []string{"toy.mixed", "toy.unsorted", "toy.calling"} {
-		if h, e := s.Make(leaf(kind)); e != nil || h == nil {
-			t.Fatal(kind, e)
+// mixtures make nodes by the abilities that they have.
+func mixtures() map[string]func(part.Base, part.Sorted) api.Node {
+	return map[string]func(part.Base, part.Sorted) api.Node{
+		"Strict": func(b part.Base, _ part.Sorted) api.Node {
+			return &struct {
+				part.Base
+				doing
+			}{Base: b}
+		},
+		"Strict Pure": func(b part.Base, _ part.Sorted) api.Node {
+			return &struct {
+				part.Base
+				doing
+				part.Pure
+			}{Base: b}
+		},
+		"Strict Pure Total": func(b part.Base, _ part.Sorted) api.Node {
+			return &struct {
+				part.Base
+				doing
+				part.Total
+			}{Base: b}
+		},
+		"Strict Binder Sorted": func(b part.Base, s part.Sorted) api.Node {
+			return &struct {
+				part.Base
+				doing
+				naming
+				part.Sorted
+			}{Base: b, Sorted: s}
+		},
+		"Strict Caller Sorted": func(b part.Base, s part.Sorted) api.Node {
+			return &struct {
+				part.Base
+				doing
+				calling
+				part.Sorted
+			}{Base: b, Sorted: s}
+		},
+		"Strict Sugar": func(b part.Base, _ part.Sorted) api.Node {
+			return &struct {
+				part.Base
+				doing
+				spelling
+			}{Base: b}
+		},
+		"Literal": func(b part.Base, _ part.Sorted) api.Node {
+			return &struct {
+				part.Base
+				standing
+			}{Base: b}
+		},
+		"Literal Framed": func(b part.Base, _ part.Sorted) api.Node {
+			return &struct {
+				part.Base
+				standing
+				framing
+			}{Base: b}
+		},
+		"Lazy": func(b part.Base, _ part.Sorted) api.Node {
+			return &struct {
+				part.Base
+				going
+			}{Base: b}
+		},
+		"Lazy Binder": func(b part.Base, _ part.Sorted) api.Node {
+			return &struct {
+				part.Base
+				going
+				naming
+			}{Base: b}
+		},
+		"Lazy Caller": func(b part.Base, _ part.Sorted) api.Node {
+			return &struct {
+				part.Base
+				going
+				calling
+			}{Base: b}
+		},
+		"Binder": func(b part.Base, _ part.Sorted) api.Node {
+			return &struct {
+				part.Base
+				naming
+			}{Base: b}
+		},
+		"Binder User Pure": func(b part.Base, _ part.Sorted) api.Node {
+			return &struct {
+				part.Base
+				naming
+				using
+				part.Pure
+			}{Base: b}
+		},
+		"Literal Strict Lazy Binder User Caller Pure Total Sorted Sugar Framed": func(b part.Base, s part.Sorted) api.Node {
+			return &struct {
+				part.Base
+				standing
+				doing
+				going
+				naming
+				using
+				calling
+				part.Total
+				part.Sorted
+				spelling
+				framing
+			}{Base: b, Sorted: s}
+		},
+	}
+}
+
+func TestLikenessOfMixtures(t *testing.T) {
+	for has, make := range mixtures() {
+		k := craft.Kit("toy", []craft.Kind{{Name: "toy.x", Min: 2, Max: 2, Has: has, Signs: "list a, b > b; bound int", Make: make}})
+		s := shelf(t, k)
+		for _, p := range []api.Plugin{{Kind: "my.x", Like: "toy.x"}, {Kind: "your.x", Like: "my.x"}} {
+			if e := s.Add(p); e != nil {
+				t.Fatalf("P16.2: like one with %s: %v", has, e)
+			}
+			kids := units(2)
+			h, e := k.Make(leaf("toy.x"), kids...)
+			n := made(t, s, leaf(p.Kind), kids...)
+			holds(t, n, leaf(p.Kind), kids...)
+			if e != nil || abilities(n) != has || tells(n) != tells(h.Node()) {
+				t.Errorf("P16.3: like one with %s: %s", has, tells(n))
+			}
 		}
-		refused(t, s, "like "+kind, api.Plugin{Kind: "my.x", Like: kind}, api.ErrArg)
+	}
+}
+
+// sets are all abilities that a row may name.
+func sets() [][]string {
+	all := [][]string{nil}
+	for _, a := range []string{"Literal", "Strict", "Lazy", "Binder", "User", "Caller", "Pure", "Total", "Sorted", "Sugar", "Framed"} {
+		for _, set := range all {
+			if a != "Total" || slices.Contains(set, "Pure") {
+				all = append(all, append(slices.Clone(set), a))
+			}
+		}
+	}
+	return all
+}
+
+// TestLikenessOfAllRows: what a plugin may be like is told by the row, whatever the maker is.
+func TestLikenessOfAllRows(t *testing.T) {
+	if len(sets()) != 1536 {
+		t.Fatalf("%d lists of abilities", len(sets()))
+	}
+	for _, has := range sets() {
+		asked := 0
+		k, e := kit.New("toy", []api.Row{{Kind: "toy.x", Min: 1, Max: 3, Num: true, Text: api.TextName, Abilities: has}}, func(api.Tree, ...*node.Handle) *node.Handle {
+			asked++
+			return nil
+		})
+		if e != nil {
+			t.Fatal(has, e)
+		}
+		s := shelf(t, k)
+		what := "like one with " + strings.Join(has, " ")
+		may := false
+		for _, a := range []string{"Literal", "Strict", "Lazy"} {
+			may = may || slices.Contains(has, a)
+		}
+		if !may && (!slices.Contains(has, "Binder") || slices.Contains(has, "Caller")) {
+			refused(t, s, what, api.Plugin{Kind: "my.x", Like: "toy.x"}, api.ErrArg)
+			continue
+		}
+		told(t, "P16.2", what, s.Add(api.Plugin{Kind: "my.x", Like: "toy.x"}), api.OK)
+		if r, ok := s.Row("my.x"); !ok || !reflect.DeepEqual(r, api.Row{Kind: "my.x", Min: 1, Max: 3, Num: true, Text: api.TextName, Abilities: has}) {
+			t.Errorf("P16.3: %s: %v", what, r)
+		}
+		if asked != 0 {
+			t.Errorf("P16.2: %s: the maker is asked", what)
+		}
+		if h, e := s.Make(api.Tree{Kind: "my.x", Text: "x"}, units(1)...); h != nil || fault.Code(e) != api.ErrArg || asked != 1 {
+			t.Errorf("P16.5: %s: a maker that gives nothing: %v", what, e)
+		}
+	}
+}
+
+// TestLikenessOfNodesWithoutAName: nodes that no kit of the program makes so can't be had by another name.
+func TestLikenessOfNodesWithoutAName(t *testing.T) {
+	for _, n := range []api.Node{
+		&struct {
+			part.Base
+			doing
+		}{Base: part.New(leaf("toy.x"))},
+		&struct {
+			api.Node
+			doing
+		}{Node: made(t, shelf(t), leaf("toy.x"))},
+	} {
+		k, e := kit.New("toy", []api.Row{{Kind: "toy.x", Abilities: []string{"Strict"}}}, func(api.Tree, ...*node.Handle) *node.Handle { return node.Hold(n) })
+		if e != nil {
+			t.Fatal(e)
+		}
+		s := shelf(t, k)
+		if got := made(t, s, leaf("toy.x")); got != n {
+			t.Fatal("another node")
+		}
+		told(t, "P16.2", "like toy.x", s.Add(api.Plugin{Kind: "my.x", Like: "toy.x"}), api.OK)
+		h, e := s.Make(leaf("my.x"))
+		told(t, "P16.5", "like toy.x", e, api.ErrArg)
+		if h != nil {
+			t.Errorf("P16.5: a handle beside %v", e)
+		}
+	}
+}
+
+// TestLikenessOfOneNode: a maker may give one node again and again; what is like it is another one.
+func TestLikenessOfOneNode(t *testing.T) {
+	inner := laden(t, api.Plugin{Kind: "toy.x", Like: "num.min"})
+	kids := units(2)
+	one, e := inner.Make(leaf("toy.x"), kids...)
+	if e != nil {
+		t.Fatal(e)
+	}
+	k, e := kit.New("toy", []api.Row{{Kind: "toy.x", Min: 2, Max: 2, Abilities: []string{"Strict", "Pure", "Total", "Sorted"}}}, func(api.Tree, ...*node.Handle) *node.Handle { return one })
+	if e != nil {
+		t.Fatal(e)
+	}
+	s := shelf(t, k)
+	for _, kind := range []string{"my.x", "my.y"} {
+		told(t, "P16.2", kind, s.Add(api.Plugin{Kind: kind, Like: "toy.x"}), api.OK)
+		n := made(t, s, leaf(kind), kids...)
+		holds(t, n, leaf(kind), kids...)
+		if n.(api.Strict).Op() != "num.min" || one.Node().Kind() != "toy.x" || made(t, s, leaf(kind), kids...) == n {
+			t.Errorf("P16.3: %s: %s", kind, tells(n))
+		}
 	}
 }

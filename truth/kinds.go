@@ -15,12 +15,12 @@ type base struct {
 
 type strict struct{ base }
 
-func (s *strict) Op() string { return s.Kind() }
+func (s *strict) Op() string { return s.Does() }
 
 // lazy has no operation: whoever evaluates it asks for its way, and chooses among its kids by that.
 type lazy struct{ base }
 
-func (l *lazy) Way() string { return l.Kind() }
+func (l *lazy) Way() string { return l.Does() }
 
 func newStrict(b part.Base, s part.Sorted) api.Node { return &strict{base{Base: b, Sorted: s}} }
 
